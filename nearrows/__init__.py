@@ -1,0 +1,1 @@
+"""Heaps of rows such that every row is near one of them."""

@@ -1,0 +1,49 @@
+"""Things that several tests hand in, and what is told of them by another way than the program's."""
+
+import itertools
+
+
+class Odd:
+    """An object of a kind that no module knows."""
+
+
+def odd_things():
+    """Things of many kinds that are no tuple, no number and no text that is told."""
+    inside_itself = []
+    inside_itself.append(inside_itself)
+    return [
+        None, True, False, -1, -(10 ** 29), 10 ** 29, "", "x", "two", "-0", "\n", " ", b"", b"22", b"-",
+        [], [2, 2], [(0, 0)], {}, {2: 2}, {(0, 0): 1}, set(), {2}, frozenset([2]), range(2), iter([2]),
+        Odd(), Odd, len, lambda: 2, NotImplemented, ..., inside_itself, ValueError("x"), bytearray(b"2"),
+    ]
+
+
+def odd_tuples():
+    """Tuples that are no shape, and no row, no heap but () and no weights but () of a shape of two spots."""
+    return [(thing,) for thing in odd_things()] + [(thing, 0) for thing in odd_things()] + [
+        (2, 2, [2]), ((2, 2),), (((0, 0),),), ("2", "2"), ((), ()), ((0, 0), 1, 1), (-1, 2), (0, -1), (10, 10),
+        (0, 10), (10 ** 29, 2), (2,) * 9, (0,) * 9, (0,) * 3, (None, None),
+    ]
+
+
+def anything():
+    """What is neither a shape, nor a row, a heap or weights of a shape of two spots; () is left to each test."""
+    return odd_things() + odd_tuples() + [0, 1, 2, 9, 256]
+
+
+def rows(shape):
+    """All rows of the shape, in order."""
+    return list(itertools.product(*[range(signs) for signs in shape]))
+
+
+def apart(one, other):
+    """The distance of two rows."""
+    return sum(map(lambda pair: pair[0] != pair[1], zip(one, other)))
+
+
+def heaps(shape, most):
+    """Each heap of the shape of at most so many rows."""
+    return [heap for many in range(most + 1) for heap in itertools.combinations(rows(shape), many)]
+
+
+SHAPES = [(2,), (9,), (3, 2), (2, 3), (3, 3, 2), (2, 4, 3), (2, 2, 2, 2), (9, 9), (4, 4, 4)]
