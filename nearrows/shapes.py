@@ -14,9 +14,14 @@ def is_whole(thing):
     return isinstance(thing, int) and not isinstance(thing, bool)
 
 
+def is_whole_from(thing, least):
+    """Whether this is a whole number from least on."""
+    return is_whole(thing) and thing >= least
+
+
 def is_whole_within(thing, least, most):
     """Whether this is a whole number from least up to most."""
-    return is_whole(thing) and least <= thing <= most
+    return is_whole_from(thing, least) and thing <= most
 
 
 def is_shape(thing):
