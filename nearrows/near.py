@@ -2,7 +2,8 @@
 
 from nearrows.errors import NoHeap, NoNumber
 from nearrows.heaps import need_heap
-from nearrows.shapes import apart, is_whole_from, need_nearness, need_row, need_shape, rows_of
+from nearrows.kinds import is_whole_from
+from nearrows.shapes import apart, need_nearness, need_row, need_shape, rows_of
 
 
 def nearest(shape, heap, row):

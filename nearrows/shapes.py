@@ -1,27 +1,12 @@
 """Shapes, their rows, and the balls around these."""
 
 from nearrows.errors import NoNearness, NoRow, NoShape
+from nearrows.kinds import is_tuple_of, is_whole_within
 
 MOST_SPOTS = 8
 FEWEST_SIGNS = 2
 MOST_SIGNS = 9
 MOST_ROWS = 256
-
-
-def is_whole(thing):
-    """Whether this is a whole number."""
-    # Python takes True and False for ints, the document does not.
-    return isinstance(thing, int) and not isinstance(thing, bool)
-
-
-def is_whole_from(thing, least):
-    """Whether this is a whole number from least on."""
-    return is_whole(thing) and thing >= least
-
-
-def is_whole_within(thing, least, most):
-    """Whether this is a whole number from least up to most."""
-    return is_whole_from(thing, least) and thing <= most
 
 
 def is_shape(thing):
@@ -90,7 +75,7 @@ def need_row(shape, thing):
 
 def need_nearness(shape, thing):
     """Refuse what is no nearness of the shape."""
-    if not is_whole_within(thing, 0, len(shape)):
+    if not nearness_fits(shape, thing):
         raise NoNearness("no nearness of the shape")
 
 
@@ -99,9 +84,19 @@ def need_nearness(shape, thing):
 
 def row_fits(shape, thing):
     """Whether this is a row of what is known to be a shape."""
-    if not isinstance(thing, tuple) or len(thing) != len(shape):
+    if not is_tuple_of(thing, len(shape)):
         return False
     return all([is_whole_within(sign, 0, signs - 1) for sign, signs in zip(thing, shape)])
+
+
+def nearness_fits(shape, thing):
+    """Whether this is a nearness of what is known to be a shape."""
+    return is_whole_within(thing, 0, len(shape))
+
+
+def spot_fits(shape, thing):
+    """Whether this is a spot of what is known to be a shape."""
+    return is_whole_within(thing, 0, len(shape) - 1)
 
 
 def count_rows(shape):

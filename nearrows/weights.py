@@ -2,8 +2,9 @@
 
 from nearrows.errors import NoWeights
 from nearrows.heaps import is_rising
+from nearrows.kinds import is_tuple_of, is_whole_from
 from nearrows.near import first_greatest, need_often
-from nearrows.shapes import apart, is_whole_from, need_nearness, need_shape, row_fits, rows_of
+from nearrows.shapes import apart, need_nearness, need_shape, row_fits, rows_of
 
 
 def are_weights(shape, thing):
@@ -64,7 +65,7 @@ def weights_fit(shape, thing):
 
 def weight_fits(shape, thing):
     """Whether this is a row of the shape with its weight."""
-    if not isinstance(thing, tuple) or len(thing) != 2:
+    if not is_tuple_of(thing, 2):
         return False
     return row_fits(shape, thing[0]) and is_whole_from(thing[1], 1)
 

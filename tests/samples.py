@@ -7,6 +7,16 @@ class Odd:
     """An object of a kind that no module knows."""
 
 
+class Agreeing:
+    """An object that says of everything that it is the same."""
+
+    def __eq__(self, other):
+        return True
+
+    def __hash__(self):
+        return hash("heap")
+
+
 def odd_things():
     """Things of many kinds that are no tuple, no number and no text that is told."""
     inside_itself = []
@@ -14,7 +24,7 @@ def odd_things():
     return [
         None, True, False, -1, -(10 ** 29), 10 ** 29, "", "x", "two", "-0", "\n", " ", b"", b"22", b"-",
         [], [2, 2], [(0, 0)], {}, {2: 2}, {(0, 0): 1}, set(), {2}, frozenset([2]), range(2), iter([2]),
-        Odd(), Odd, len, lambda: 2, NotImplemented, ..., inside_itself, ValueError("x"), bytearray(b"2"),
+        Odd(), Odd, Agreeing(), len, lambda: 2, NotImplemented, ..., inside_itself, ValueError("x"), bytearray(b"2"),
     ]
 
 
@@ -44,6 +54,11 @@ def apart(one, other):
 def heaps(shape, most):
     """Each heap of the shape of at most so many rows."""
     return [heap for many in range(most + 1) for heap in itertools.combinations(rows(shape), many)]
+
+
+def covers(shape, heap, nearness):
+    """Whether each row of the shape is near one of the heap's."""
+    return all(any(apart(row, other) <= nearness for other in heap) for row in rows(shape))
 
 
 SHAPES = [(2,), (9,), (3, 2), (2, 3), (3, 3, 2), (2, 4, 3), (2, 2, 2, 2), (9, 9), (4, 4, 4)]

@@ -17,6 +17,9 @@ BUILTINS = {
     "bytes", "list", "tuple", "dict", "set", "isinstance", "ord", "repr", "any", "all", "divmod", "ValueError",
     "KeyError", "IndexError",
 }
+ITERATING = (
+    "list", "tuple", "dict", "sorted", "sum", "any", "all", "enumerate", "zip", "bytes", "min", "max",
+)
 BARRED_NODES = (
     ast.Global, ast.AsyncFunctionDef, ast.AsyncFor, ast.AsyncWith, ast.Await, ast.Div, ast.Import,
 )
@@ -43,6 +46,35 @@ def bound_at_module_level(tree):
     for node in tree.body:
         if isinstance(node, ast.ImportFrom):
             yield from [alias.asname or alias.name for alias in node.names]
+
+
+def bound_inside(node):
+    """The name that this binds in a function, or None."""
+    if isinstance(node, ast.arg):
+        return node.arg
+    if isinstance(node, ast.Name) and isinstance(node.ctx, ast.Store):
+        return node.id
+    if isinstance(node, (ast.MatchAs, ast.MatchStar)):
+        return node.name
+    return None
+
+
+def is_iterated_once(node):
+    """Whether this is a call whose worth is iterated at once."""
+    if not isinstance(node, ast.Call):
+        return False
+    if isinstance(node.func, ast.Attribute):
+        return node.func.attr in ("items", "keys", "values")
+    return isinstance(node.func, ast.Name) and node.func.id in ("zip", "enumerate", "reversed", "range")
+
+
+def iterated_at_once(tree):
+    """What stands where it is iterated at once."""
+    for node in ast.walk(tree):
+        if isinstance(node, (ast.For, ast.comprehension)):
+            yield node.iter
+        elif isinstance(node, ast.Call) and isinstance(node.func, ast.Name) and node.func.id in ITERATING:
+            yield from node.args[:1]
 
 
 class Form(unittest.TestCase):
@@ -83,9 +115,7 @@ class Form(unittest.TestCase):
             bound = list(bound_at_module_level(tree))
             self.assertEqual(len(bound), len(set(bound)), name)
             for node in ast.walk(tree):
-                inner = node.arg if isinstance(node, ast.arg) else None
-                if isinstance(node, ast.Name) and isinstance(node.ctx, ast.Store):
-                    inner = node.id
+                inner = bound_inside(node)
                 if inner is not None and not inner.isupper():
                     self.assertNotIn(inner, bound, name)
                     self.assertNotIn(inner, dir(builtins), name)
@@ -96,15 +126,19 @@ class Form(unittest.TestCase):
             known = BUILTINS | set(bound_at_module_level(tree))
             for node in ast.walk(tree):
                 self.assertNotIsInstance(node, BARRED_NODES, name)
-                if isinstance(node, ast.arg):
-                    known.add(node.arg)
-                if isinstance(node, ast.Name) and isinstance(node.ctx, ast.Store):
-                    known.add(node.id)
+                known.add(bound_inside(node))
             for node in ast.walk(tree):
                 if isinstance(node, ast.Name):
                     self.assertIn(node.id, known, name)
                 if isinstance(node, ast.Constant):
                     self.assertNotIsInstance(node.value, (float, complex), name)
+
+    def test_what_is_iterated_once_is_not_stored(self):
+        for name, tree in trees():
+            fine = list(iterated_at_once(tree))
+            for node in ast.walk(tree):
+                if is_iterated_once(node):
+                    self.assertIn(node, fine, (name, node.lineno))
 
 
 if __name__ == "__main__":
