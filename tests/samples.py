@@ -62,3 +62,28 @@ def covers(shape, heap, nearness):
 
 
 SHAPES = [(2,), (9,), (3, 2), (2, 3), (3, 3, 2), (2, 4, 3), (2, 2, 2, 2), (9, 9), (4, 4, 4)]
+
+
+def exchanges(shape):
+    """Each exchange of the shape."""
+    return [
+        (order, signs)
+        for order in itertools.permutations(range(len(shape)))
+        for signs in itertools.product(*[itertools.permutations(range(shape[spot])) for spot in order])
+    ]
+
+
+def led(exchange, row):
+    """The row that an exchange leads to, as the document words it."""
+    order, signs = exchange
+    return tuple(signs[k][row[order[k]]] for k in range(len(order)))
+
+
+def led_shape(exchange, shape):
+    """The shape that an exchange leads to."""
+    return tuple(shape[spot] for spot in exchange[0])
+
+
+def led_heap(exchange, heap):
+    """The heap that an exchange leads to."""
+    return tuple(sorted(led(exchange, row) for row in heap))
