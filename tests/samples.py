@@ -87,3 +87,17 @@ def led_shape(exchange, shape):
 def led_heap(exchange, heap):
     """The heap that an exchange leads to."""
     return tuple(sorted(led(exchange, row) for row in heap))
+
+
+def small_shapes(most):
+    """Each shape of at most so many rows."""
+    found = []
+    last = [()]
+    while last:
+        last = [shape + (signs,) for shape in last for signs in range(2, 10)]
+        last = [shape for shape in last if len(shape) <= 8 and len(rows(shape)) <= most]
+        found += last
+    return found
+
+
+SMALL_SHAPES = small_shapes(27)
