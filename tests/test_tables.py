@@ -299,6 +299,9 @@ class OtherRefusals(unittest.TestCase):
                 self.assertRaises(NoReason, lambda: table.tell_reason(shape, nearness, reason))
             else:
                 self.assertIsNone(table.tell_reason(shape, nearness, reason))
+        self.assertRaises(NoShape, lambda: table.tell_reason((1,), None, None))
+        self.assertRaises(NoNearness, lambda: table.tell_reason((2, 2), None, None))
+        self.assertRaises(NoReason, lambda: table.tell_reason((2, 2), 1, None))
 
 
 class Alike(unittest.TestCase):
